@@ -5,7 +5,7 @@ from movedround.behind import send_on, shift
 from movedround.checks import check_at_most, check_dials, check_unlike, is_dials
 from movedround.errors import BadDials, BadOrder
 from movedround.listing import list_dealings
-from movedround.values import is_between, is_tuple_of
+from movedround.values import is_number, is_tuple_of
 
 ORDERS = ((0, 1, 2), (0, 2, 1), (1, 0, 2), (1, 2, 0), (2, 0, 1), (2, 1, 0))
 
@@ -31,9 +31,7 @@ def turned_side(dials, moves, order):
 
 def is_order(thing):
     """Whether any value is a tuple that has 0, 1 and 2 once each."""
-    if not is_tuple_of(thing, 3) or not all([is_between(at, 0, 2) for at in thing]):
-        return False
-    return thing in ORDERS
+    return is_tuple_of(thing, 3) and all([is_number(at) for at in thing]) and thing in ORDERS
 
 
 def side(dials, dealing, order):

@@ -191,6 +191,13 @@ def fewest(starts, steps_of):
     return many
 
 
+# Rows of (10,) with just 300 dealings, of (9,) with 306, 2025 dealings, and of (10,) with many more than 300.
+ROW_300 = tuple((at,) for at in (0, 0, 0, 1, 1, 2, 6, 6, 7, 7))
+ROW_306 = tuple((at,) for at in (0, 0, 1, 1, 2, 3, 6, 6, 8))
+MANY9 = tuple((at,) for at in range(9))
+MANY10 = tuple((at,) for at in (1, 2, 3, 4, 5, 5, 6, 7, 8, 9))
+
+
 # ---- values of all kinds ----
 
 def deep(levels, wrap, inner=0):

@@ -60,8 +60,8 @@ class Dealings(Case):
                 self.assertEqual(self.told(ends, dials=sizes, moves=row), own_ends(sizes, row))
 
     def test_any_value_is_judged_as_described(self):
-        for sizes, valid in (((3,), ((0,), (1,), (2,))), ((2,), ((1,), (1,))), ((2, 2), ((0, 0), (1, 0), (1, 1), (0, 1))),
-                             ((4,), ((1,), (1,), (2,), (0,)))):
+        for sizes, valid in (((3,), ((0,), (1,), (2,))), ((2,), ((1,), (1,))), ((4,), ((1,), (1,), (2,), (0,))),
+                             ((2, 2), ((0, 0), (1, 0), (1, 1), (0, 1)))):
             row = tuple(sorted(valid))
             for thing in anything() + list(near_misses(valid)):
                 good = good_dealing(sizes, thing)

@@ -9,14 +9,11 @@ from movedround import errors
 from movedround.dials import turn_of
 from movedround.manydealings import all_dealings, arrangements, beginning_many, dealing_at, dealings_many, index_of
 from movedround.manydealings import rows_many
-from tests.support import Case, all_dials, all_rows, dealings_by_row, dealings_of, drawn_dealing, drawn_row, good_dealing
-from tests.support import nothing, own_places, own_total
+from tests.support import MANY9, MANY10, ROW_300, ROW_306, Case, all_dials, all_rows, dealings_by_row
+from tests.support import dealings_of, drawn_dealing, drawn_row, good_dealing, nothing, own_places, own_total
 
 ROW3 = ((0,), (1,), (2,))
 FEW = [(2,), (3,), (4,), (2, 2), (5,), (6,), (3, 2)]
-# 10 places, with more than 300 dealings; 9 places, with 2025.
-MANY10 = tuple((at,) for at in (1, 2, 3, 4, 5, 5, 6, 7, 8, 9))
-MANY9 = tuple((at,) for at in range(9))
 
 
 class Counted(Case):
@@ -135,7 +132,7 @@ class Listed(Case):
         for sizes, row in (((10,), MANY10), ((9,), MANY9)):
             many = dealings_many(sizes, row)
             self.assertGreater(many, 300)
-            some = [dealing_at(sizes, row, index) for index in range(0, many, many // 9)] + [dealing_at(sizes, row, many - 1)]
+            some = [dealing_at(sizes, row, index) for index in [*range(0, many - 1, many // 9), many - 1]]
             self.assertEqual(some, sorted(some))
             self.assertTrue(all(good_dealing(sizes, moves) and tuple(sorted(moves)) == row for moves in some))
             self.assertEqual(index_of(sizes, some[-1]), many - 1)
@@ -155,6 +152,12 @@ class Listed(Case):
             self.refused(errors.BadIndex, dealing_at, dials=(11,), row=((0,),) * 11, index=index)
 
     def test_at_most_300_are_listed(self):
+        listed = self.told(all_dealings, dials=(10,), row=ROW_300)
+        self.assertEqual(len(listed), 300)
+        self.assertEqual(listed, sorted(set(listed)))
+        self.assertTrue(all(good_dealing((10,), moves) and tuple(sorted(moves)) == ROW_300 for moves in listed))
+        self.assertEqual(self.told(dealings_many, dials=(9,), row=ROW_306), 306)
+        self.too_many(300, all_dealings, dials=(9,), row=ROW_306)
         self.too_many(300, all_dealings, dials=(10,), row=MANY10)
         self.too_many(300, all_dealings, dials=(9,), row=MANY9)
         by_many = {len(some): row for row, some in dealings_by_row((2, 2, 2)).items()}

@@ -7,7 +7,7 @@ import random
 from movedround import errors
 from movedround.passing import exchanged, key_of, passing, row_path
 from tests.support import Case, all_dials, all_rows, dealings_by_row, drawn_dealing, drawn_row, good_begun
-from tests.support import good_dealing, nothing, own_ends, own_minus, own_places, own_plus, own_total
+from tests.support import good_dealing, nothing, own_minus, own_places, own_plus, own_total
 
 D4 = (4,)
 BEGUN = {(0,): (1,), (1,): (1,)}
@@ -94,8 +94,8 @@ class Passings(Case):
 
     def test_wrong_begun(self):
         for begun in ({(0,): (1,), (1,): (0,)}, {(4,): (0,)}, {(0,): (4,)}, {0: (0,)}, {(0,): 0}, {(False,): (0,)},
-                      {(0,): (True,)}, {(0,): [0]}, {None: None}, {"0": "0"}, [], (), None, [((0,), (1,))], (((0,), (1,)),),
-                      {((0,),): (0,)}, {(0,): (0,), (1,): None}):
+                      {(0,): (True,)}, {(0,): [0]}, {None: None}, {"0": "0"}, [], (), None, [((0,), (1,))],
+                      (((0,), (1,)),), {((0,),): (0,)}, {(0,): (0,), (1,): None}):
             self.refused(errors.BadBegun, passing, dials=D4, begun=begun, first=(3,), second=(2,), move=(2,))
 
     def test_wrong_persons(self):
@@ -196,4 +196,3 @@ class RowPaths(Case):
         for wrong in (((1,), (0,), (2,)), list(row), ((0,), (1,)), ((False,), (1,), (2,)), None):
             self.refused(errors.BadRow, row_path, dials=(3,), row=wrong, goal=row)
             self.refused(errors.BadRow, row_path, dials=(3,), row=row, goal=wrong)
-        self.assertEqual(own_ends((3,), row), [(0,), (2,), (1,)])

@@ -59,8 +59,9 @@ class Parts(Case):
                 self.assertEqual(len(found) * len(part), math.prod(sizes))
 
     def test_what_is_no_part(self):
-        for part in (((0,), (2,), (2,), (4,)), ((0,), (4,), (2,)), ((2,), (4,)), ((2,),), (), ((0,), (2,)), ((0,), (1,)),
-                     ((0,), (1,), (2,)), [(0,), (2,), (4,)], ((0,), (2,), [4]), ((False,),), ((False,), (3,)),
+        for part in (((0,), (2,), (2,), (4,)), ((0,), (4,), (2,)), ((2,), (4,)), ((2,),), (), ((0,), (2,)),
+                     ((0,), (1,)), ((0,), (1,), (2,)), [(0,), (2,), (4,)], ((0,), (2,), [4]), ((False,),),
+                     ((False,), (3,)),
                      ((0,), (2,), (4,), (6,)), ((0,), (3,), (3,)), (0,), None, {(0,): 1}, {}):
             self.refused(errors.BadPart, shifts, dials=(6,), part=part)
         self.assertEqual(self.told(shifts, dials=(6,), part=((0,),)), [((at,),) for at in range(6)])
@@ -104,8 +105,9 @@ class Renamings(Case):
                 self.assertIs(judged, good_renaming(one, other, thing), (one, other, thing))
 
     def test_edges(self):
-        for thing in ([((0,), (False,)), ((1,), (1,))], [((False,), (0,)), ((True,), (1,))], [[(0,), (0,)], [(1,), (1,)]],
-                      [((1,), (1,)), ((0,), (0,))], [((0,), (1,)), ((1,), (0,))], [((0,), (0,)), ((1,), (0,))],
+        for thing in ([((0,), (False,)), ((1,), (1,))], [((False,), (0,)), ((True,), (1,))],
+                      [[(0,), (0,)], [(1,), (1,)]], [((1,), (1,)), ((0,), (0,))], [((0,), (1,)), ((1,), (0,))],
+                      [((0,), (0,)), ((1,), (0,))],
                       [((0,), (0,))], [((0,), (0,)), ((0,), (0,)), ((1,), (1,))], {(0,): (0,), (1,): (1,)}):
             self.assertIs(self.told(is_renaming, one=(2,), other=(2,), thing=thing), False, thing)
         self.assertIs(self.told(is_renaming, one=(2,), other=(2,), thing=[((0,), (0,)), ((1,), (1,))]), True)
