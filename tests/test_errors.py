@@ -5,11 +5,14 @@ import unittest
 from movedround import errors
 from tests.support import anything
 
-PLAIN = """BadBegin BadBegun BadBoth BadBundle BadClosed BadColumn BadColumns BadDealing BadDials BadFair BadGoals
-BadGroup BadHall BadHanding BadIndex BadInner BadKey BadKnown BadLine BadLines BadLot BadMember BadMirrored BadMixing
-BadModulus BadMost BadMove BadMoves BadMutual BadNames BadNumber BadOrder BadOther BadOuter BadPart BadParting BadPerson
-BadPersons BadPlace BadRoundWalk BadRounds BadRoute BadRow BadSecond BadSeveral BadSides BadSquare BadStep BadTable BadTold BadTour
-BadTurnings BadUnlike BadWalk BadWeighing NotIn NotMates NotOneHalf NothingDone NothingUndone""".split()
+PLAIN = """
+BadBegin BadBegun BadBoth BadBundle BadClosed BadColumn BadColumns BadDealing BadDials BadFair BadGoals BadGroup
+BadHall BadHanding BadIndex BadInner BadKey BadKnown BadLine BadLines BadLot BadMember BadMirrored BadMixing
+BadModulus BadMost BadMove BadMoves BadMutual BadNames BadNumber BadOrder BadOther BadOuter BadPart BadParting
+BadPerson BadPersons BadPlace BadRoundWalk BadRounds BadRoute BadRow BadSecond BadSeveral BadSides BadSquare
+BadStep BadTable BadTold BadTour BadTurnings BadUnlike BadWalk BadWeighing NotIn NotMates NotOneHalf NothingDone
+NothingUndone
+""".split()
 WITH_ATTRIBUTE = {"BadText": "line", "Clash": "person", "InTheWay": "person", "IsFree": "person", "IsHere": "person",
                   "NotFree": "person", "NotHere": "person", "TooMany": "most"}
 
