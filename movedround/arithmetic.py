@@ -28,6 +28,11 @@ def take_off(dials, one, other):
     return tuple([(here - there) % size for here, there, size in zip(one, other, dials)])
 
 
+def opposite(dials, place):
+    """Nothing less the place."""
+    return take_off(dials, nothing_of(dials), place)
+
+
 def add_up(dials, several):
     sum_so_far = nothing_of(dials)
     for place in several:
@@ -67,3 +72,8 @@ def left_over(some, others):
         if move in left:
             left.remove(move)
     return left
+
+
+def columns_of(lines):
+    """The list of the columns, top to bottom, of a square told line by line."""
+    return [tuple([line[at] for line in lines]) for at in range(len(lines))]

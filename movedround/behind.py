@@ -1,6 +1,6 @@
 """Dealings one behind another, turned back, shifted and renamed; their rounds and swaps."""
 
-from movedround.arithmetic import add, all_places, by_person, moves_to, nothing_of, place_count, reached, take_off
+from movedround.arithmetic import add, all_places, by_person, moves_to, nothing_of, opposite, place_count, reached
 from movedround.checks import check_dealing, check_dials, check_place
 from movedround.errors import BadNames
 from movedround.shifts import is_renaming
@@ -28,7 +28,7 @@ def behind(dials, first, second):
 
 def turn_back(dials, moves):
     """The dealing that brings all back, for a dealing that is known to be one."""
-    back = {goal: take_off(dials, nothing_of(dials), move) for goal, move in zip(reached(dials, moves), moves)}
+    back = {goal: opposite(dials, move) for goal, move in zip(reached(dials, moves), moves)}
     return tuple([back[person] for person in all_places(dials)])
 
 

@@ -1,8 +1,8 @@
 """Whether any value is what a parameter asks for, and the errors if it is not."""
 
-from movedround.arithmetic import add, all_halves, nothing_of, place_count, reached
-from movedround.errors import BadDealing, BadDials, BadMove, BadMoves, BadPlace, BadRow, BadSeveral
-from movedround.errors import BadUnlike, NotOneHalf, TooMany
+from movedround.arithmetic import add, all_halves, columns_of, nothing_of, place_count, reached
+from movedround.errors import BadDealing, BadDials, BadMove, BadMoves, BadNumber, BadPlace, BadRow
+from movedround.errors import BadSeveral, BadUnlike, NotOneHalf, TooMany
 from movedround.values import is_all_different, is_ascending, is_between, is_listed, is_rising, is_tuple_of
 
 
@@ -32,6 +32,11 @@ def is_row_of_moves(dials, thing):
     return is_moves(dials, thing) and is_ascending(thing)
 
 
+def is_each_once(dials, thing):
+    """Whether it is a tuple with each place once."""
+    return is_moves(dials, thing) and is_all_different(thing)
+
+
 def is_dealt(dials, thing):
     """Whether it is a dealing."""
     return is_moves(dials, thing) and is_all_different(reached(dials, thing))
@@ -56,6 +61,13 @@ def is_part_of_dials(dials, thing):
     return all([add(dials, one, other) in thing for one in thing for other in thing])
 
 
+def is_squared(dials, thing):
+    """Whether it is a tuple of n lines with each place once, and with each place once in each column."""
+    if not is_tuple_of(thing, place_count(dials)) or not all([is_each_once(dials, line) for line in thing]):
+        return False
+    return all([is_all_different(column) for column in columns_of(thing)])
+
+
 def check_dials(dials):
     if not is_dials(dials):
         raise BadDials("not one to four sizes from 2 to 24, with a product of at most 24")
@@ -69,6 +81,11 @@ def check_place(dials, place):
 def check_move(dials, move):
     if not is_place(dials, move):
         raise BadMove("not a move of the dials")
+
+
+def check_number(number):
+    if not is_between(number, -999999999, 999999999):
+        raise BadNumber("not a number from -999999999 to 999999999")
 
 
 def check_several(dials, several):

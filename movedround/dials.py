@@ -1,9 +1,7 @@
 """Dials and their places."""
 
 from movedround.arithmetic import add, add_up, all_halves, all_places, multiply, nothing_of, take_off
-from movedround.checks import check_dials, check_place, check_several
-from movedround.errors import BadNumber
-from movedround.values import is_between
+from movedround.checks import check_dials, check_number, check_place, check_several
 
 
 def places(dials):
@@ -39,8 +37,7 @@ def times(dials, place, number):
     """The place so many times, below 0 turned back."""
     check_dials(dials)
     check_place(dials, place)
-    if not is_between(number, -999999999, 999999999):
-        raise BadNumber("not a number from -999999999 to 999999999")
+    check_number(number)
     return multiply(dials, place, number)
 
 

@@ -1,6 +1,6 @@
 """The six sides of an unlike dealing, and the dealings that are alike."""
 
-from movedround.arithmetic import all_places, nothing_of, reached, take_off
+from movedround.arithmetic import all_places, opposite, reached, take_off
 from movedround.behind import send_on, shift
 from movedround.checks import check_at_most, check_dials, check_unlike, is_dials
 from movedround.errors import BadDials, BadOrder
@@ -12,7 +12,7 @@ ORDERS = ((0, 1, 2), (0, 2, 1), (1, 0, 2), (1, 2, 0), (2, 0, 1), (2, 1, 0))
 
 def list_triples(dials, moves):
     """The triples of a dealing that is known to be one."""
-    backs = [take_off(dials, nothing_of(dials), goal) for goal in reached(dials, moves)]
+    backs = [opposite(dials, goal) for goal in reached(dials, moves)]
     return list(zip(all_places(dials), moves, backs))
 
 

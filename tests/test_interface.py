@@ -22,6 +22,20 @@ INTERFACE = {
     "weighings": "is_weighing weighings weighed plain_bar square_bar",
     "sides": "triples side beside are_alike likes kinds",
     "manyunlike": "unlike_dealings unlike_many unlike_that nears",
+    "straight": "is_straight straights multiplied seen_from",
+    "apart": "are_apart onward is_bundle rebundled joins greatest multiples",
+    "bothways": "is_both thirds both boths quarter",
+    "mutual": "from_rounds is_mutual mutuals",
+    "meetings": "meetings is_plan is_strong strongs",
+    "walks": "is_tour is_walk steps walk walks",
+    "swings": "walked_back turned_about swung renamed_walk",
+    "fairtours": "is_fair fair_tour fair_tours fair_many",
+    "lifts": "halved halved_place is_mirrored half_tour lifts mirrored_many",
+    "roundwalks": "is_round_walk round_walk round_walks left_out rotated led route_of",
+    "bymoves": "is_trip trip trips_many stuck_trip is_stuck_trip crowded",
+    "fullrounds": "is_full_round full_round full_counts",
+    "neighbours": "sums side_by_side stacked is_neighbourly neighbourly tables are_tables",
+    "lots": "is_lot is_lot_row lot_ends is_seating lot_shifted lot_parted",
 }
 LIBRARY = {"math"}
 

@@ -3,8 +3,11 @@
 import inspect
 
 from movedround import errors
-from tests.signatures import BEYOND, SPECS
+from tests import signatures, signatures_walks
 from tests.support import Case, anything, copied, near_misses, with_tuples
+
+SPECS = signatures.SPECS + signatures_walks.SPECS
+BEYOND = signatures.BEYOND + signatures_walks.BEYOND
 
 # Of no use for any parameter that has an error.
 NO_GOOD = [None, True, "x", {"a": 1}, (True,), [[0]], 1000000000, errors.TooMany(10)]
