@@ -51,11 +51,11 @@ def list_mutuals(dials, move_of):
     taken = list(move_of.values())
     for other in waiting[1:]:
         move = take_off(dials, other, waiting[0])
-        back = opposite(dials, move)
-        if move != back and move not in taken and back not in taken:
+        # The move back is taken together with this one; with an even number of places somebody is left over.
+        if move not in taken:
             longer = {person: move_of[person] for person in move_of}
             longer[waiting[0]] = move
-            longer[other] = back
+            longer[other] = opposite(dials, move)
             found = found + list_mutuals(dials, longer)
     return found
 

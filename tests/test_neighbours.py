@@ -197,6 +197,12 @@ class Tables(Case):
             seen.add(told)
         self.assertEqual(seen, {True, False})
 
+    def test_all_side_by_side_once_but_one_sits_twice_at_a_table(self):
+        thing = [tuple((at % 5,) for at in (x, x + 1, x, x + 2)) for x in range(5)]
+        often = own_beside([each + each[:1] for each in thing])
+        self.assertTrue(all(often[pair] == 1 for pair in itertools.permutations(own_places((5,)), 2)))
+        self.assertIs(self.told(are_tables, dials=(5,), thing=thing), False)
+
     def test_wrong_arguments(self):
         for route in (None, [(0,), (1,)], ((0,), (1,), (2,)), ((1,), (2,)), ((0,), (True,)), ((0,), (0,)), (), 0):
             self.refused(errors.BadRoundWalk, tables, dials=(3,), walk=route)
