@@ -36,16 +36,21 @@ def finished(dials, held):
     return moves_to(dials, goals)
 
 
+def hand_all(dials, persons, moves):
+    """The begun dealing when moves, fewer than the persons, are passed one after another, each for two free persons."""
+    held = {}
+    for move in moves:
+        free = [person for person in persons if person not in held]
+        held = pass_on(dials, held, free[0], free[1], move)[1]
+    return held
+
+
 def deal(dials, row):
     """A dealing with this row; None if there is none."""
     if add_up(dials, row) != nothing_of(dials):
         return None
-    held = {}
-    for move in row[1:]:
-        free = [person for person in all_places(dials) if person not in held]
-        held = pass_on(dials, held, free[0], free[1], move)[1]
     # The first move of the row is not passed: as the total is nothing, it is what the last free person still needs.
-    return finished(dials, held)
+    return finished(dials, hand_all(dials, all_places(dials), row[1:]))
 
 
 def exchange(dials, moves, one, other, move):

@@ -300,3 +300,60 @@ def one_half(sizes):
 def own_thirds(sizes):
     places = own_places(sizes)
     return [x for x in places[1:] if own_times(sizes, x, 3) == places[0]]
+
+
+# ---- seatings ----
+
+def own_seatings(sizes, lot, row):
+    """All seatings, ascending: by trying all orders of the row, person by person."""
+    found = []
+
+    def go_on(moves, left, taken):
+        if not left:
+            found.append(tuple(moves))
+        for move in sorted(set(left)):
+            goal = own_plus(sizes, lot[len(moves)], move)
+            if goal not in taken:
+                rest = list(left)
+                rest.remove(move)
+                go_on(moves + [move], rest, taken | {goal})
+
+    go_on([], list(row), frozenset())
+    return found
+
+
+def own_seatings_by_row(sizes, lot):
+    """How many seatings each row has: by trying all moves for all persons."""
+    many = collections.Counter()
+    for moves in itertools.product(own_places(sizes), repeat=len(lot)):
+        if len({own_plus(sizes, person, move) for person, move in zip(lot, moves)}) == len(lot):
+            many[tuple(sorted(moves))] += 1
+    return many
+
+
+def good_all_but(sizes, lot, row, move, thing):
+    if type(thing) is not tuple or len(thing) != 2 or type(thing[1]) is not tuple or len(thing[1]) != len(lot):
+        return False
+    person, moves = thing
+    if person not in lot or moves[lot.index(person)] is not None:
+        return False
+    pairs = [(one, own) for one, own in zip(lot, moves) if one != person]
+    if not good_places(sizes, [own for _, own in pairs]):
+        return False
+    ends = {own_plus(sizes, one, own) for one, own in pairs}
+    return len(ends) == len(pairs) and sorted([own for _, own in pairs] + [move]) == list(row)
+
+
+def good_stuck(sizes, lot, row, thing, taken=()):
+    """Whether a value is a tree of cases, behind the pairs (person, move) taken."""
+    left = collections.Counter(row) - collections.Counter(move for _, move in taken)
+    waiting = [person for person in lot if person not in [one for one, _ in taken]]
+    if type(thing) is not tuple or len(thing) != 2 or type(thing[1]) is not dict or not good_place(sizes, thing[0]):
+        return False
+    person, branches = thing
+    if person not in waiting or not all(good_place(sizes, move) for move in branches):
+        return False
+    ends = [own_plus(sizes, *pair) for pair in taken]
+    cases = [move for move in left if own_plus(sizes, person, move) not in ends]
+    return sorted(cases) == sorted(branches) and all(
+        good_stuck(sizes, lot, row, branches[move], taken + ((person, move),)) for move in branches)

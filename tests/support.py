@@ -7,6 +7,7 @@ import math
 import unittest
 
 from movedround.errors import BadDials, MoveError, TooMany
+from movedround.groups import Group
 
 
 # ---- a count of the tests' own: nothing here is taken from the package ----
@@ -218,7 +219,8 @@ def anything():
         {(True,): (0,)}, {(0,): (False,)}, {"0": None}, {None: []}, {(0,): [0]}, {"a": {"b": [{}]}},
         deep(80, lambda x: [x]), deep(80, lambda x: (x,)), deep(80, lambda x: {0: x}), deep(79, lambda x: [x], (0,)),
         deep(79, lambda x: (x,), {}), MoveError("a text"), TooMany(10), BadDials("(2,)"), [MoveError("x")],
-        (TooMany(None),), {0: TooMany([])},
+        (TooMany(None),), {0: TooMany([])}, Group(((0, 1), (1, 0))), (Group(((0, 1), (1, 0))),), ((0, 1), (1, 0)),
+        ((2,), ((0,), (1,))), ((0,), {}), ((0,), {(0,): ((0,), {})}),
     ]
 
 
@@ -293,7 +295,9 @@ def held_lists(value):
 
 
 def is_plain(value):
-    """Whether a value is made of numbers, bools, None, strings, lists, tuples and dicts with ascending keys."""
+    """Whether a value is made of numbers, bools, None, strings, lists, tuples, dicts with ascending keys, and groups."""
+    if type(value) is Group:
+        return is_plain(value.table)
     if type(value) in (list, tuple):
         return all(is_plain(item) for item in value)
     if type(value) is dict:

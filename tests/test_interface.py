@@ -36,6 +36,13 @@ INTERFACE = {
     "fullrounds": "is_full_round full_round full_counts",
     "neighbours": "sums side_by_side stacked is_neighbourly neighbourly tables are_tables",
     "lots": "is_lot is_lot_row lot_ends is_seating lot_shifted lot_parted",
+    "seatings": "seating seatings_many part_bar all_but",
+    "stuck": "stuck is_stuck",
+    "wished": "wished goals_reached seated_on",
+    "twomoves": "trains two_many two_seating",
+    "groups": "Group after back turns commutes group_of polygon group_from part_from mixed_part",
+    "shades": "shade is_shade comes_to_nothing order_to is_order_to heavy",
+    "mixings": "mixing is_mixing mixings_many moved_mixing joined_mixing group_dealing barred_row",
 }
 LIBRARY = {"math"}
 

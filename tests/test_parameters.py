@@ -3,11 +3,11 @@
 import inspect
 
 from movedround import errors
-from tests import signatures, signatures_walks
+from tests import signatures, signatures_lots, signatures_walks
 from tests.support import Case, anything, copied, near_misses, with_tuples
 
-SPECS = signatures.SPECS + signatures_walks.SPECS
-BEYOND = signatures.BEYOND + signatures_walks.BEYOND
+SPECS = signatures.SPECS + signatures_walks.SPECS + signatures_lots.SPECS
+BEYOND = signatures.BEYOND + signatures_walks.BEYOND + signatures_lots.BEYOND
 
 # Of no use for any parameter that has an error.
 NO_GOOD = [None, True, "x", {"a": 1}, (True,), [[0]], 1000000000, errors.TooMany(10)]
