@@ -2,7 +2,7 @@
 
 from movedround.arithmetic import add, all_halves, columns_of, nothing_of, place_count, reached
 from movedround.errors import BadDealing, BadDials, BadMove, BadMoves, BadNumber, BadPlace, BadRow
-from movedround.errors import BadSeveral, BadUnlike, NotOneHalf, TooMany
+from movedround.errors import BadSeveral, BadSquare, BadUnlike, NotOneHalf, TooMany
 from movedround.values import is_all_different, is_ascending, is_between, is_listed, is_rising, is_tuple_of
 
 
@@ -111,6 +111,11 @@ def check_dealing(dials, moves):
 def check_unlike(dials, moves):
     if not is_dealt_unlike(dials, moves):
         raise BadUnlike("not an unlike dealing")
+
+
+def check_square(dials, square):
+    if not is_squared(dials, square):
+        raise BadSquare("not a square of the dials")
 
 
 def check_one_half(dials):

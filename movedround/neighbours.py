@@ -1,8 +1,8 @@
 """Squares in which each two places stand side by side once, and tables at which all have each other at their side."""
 
 from movedround.arithmetic import add, all_places, columns_of, place_count
-from movedround.checks import are_places, check_dials, check_one_half, is_each_once, is_squared
-from movedround.errors import BadColumns, BadLines, BadSquare
+from movedround.checks import are_places, check_dials, check_one_half, check_square, is_each_once, is_squared
+from movedround.errors import BadColumns, BadLines
 from movedround.roundwalks import check_round_walk
 from movedround.routing import count_each
 from movedround.values import is_all_different, is_listed, is_tuple_of
@@ -22,11 +22,6 @@ def sums(dials, lines, columns):
     if not is_each_once(dials, columns):
         raise BadColumns("columns are not a tuple with each place once")
     return sum_square(dials, lines, columns)
-
-
-def check_square(dials, square):
-    if not is_squared(dials, square):
-        raise BadSquare("not a square of the dials")
 
 
 def list_beside(lines):

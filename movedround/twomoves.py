@@ -3,33 +3,16 @@
 from movedround.arithmetic import add, nothing_of, take_off
 from movedround.checks import check_dials, is_place
 from movedround.errors import BadNumber, BadStep
+from movedround.following import list_rows
 from movedround.fullrounds import check_two_moves
 from movedround.lots import check_lot
 from movedround.values import is_between
 
 
-def train_from(dials, lot, step, person):
-    """The persons of the lot from this one on, each at the place of the one before plus step, none twice."""
-    train = [person]
-    following = add(dials, person, step)
-    while following in lot and following != person:
-        train.append(following)
-        following = add(dials, following, step)
-    return tuple(train)
-
-
 def list_trains(dials, lot, step):
     """The pair of the lists of the open and of the round trains."""
-    firsts = [person for person in lot if take_off(dials, person, step) not in lot]
-    opened = [train_from(dials, lot, step, person) for person in firsts]
-    met = [person for train in opened for person in train]
-    closed = []
-    for person in lot:
-        if person not in met:
-            train = train_from(dials, lot, step, person)
-            closed.append(train)
-            met = met + list(train)
-    return opened, closed
+    goals = {person: add(dials, person, step) for person in lot}
+    return list_rows(lot, {person: goals[person] for person in lot if goals[person] in lot})
 
 
 def trains(dials, lot, step):

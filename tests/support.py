@@ -8,6 +8,7 @@ import unittest
 
 from movedround.errors import BadDials, MoveError, TooMany
 from movedround.groups import Group
+from movedround.hall import Hall
 
 
 # ---- a count of the tests' own: nothing here is taken from the package ----
@@ -220,7 +221,7 @@ def anything():
         deep(80, lambda x: [x]), deep(80, lambda x: (x,)), deep(80, lambda x: {0: x}), deep(79, lambda x: [x], (0,)),
         deep(79, lambda x: (x,), {}), MoveError("a text"), TooMany(10), BadDials("(2,)"), [MoveError("x")],
         (TooMany(None),), {0: TooMany([])}, Group(((0, 1), (1, 0))), (Group(((0, 1), (1, 0))),), ((0, 1), (1, 0)),
-        ((2,), ((0,), (1,))), ((0,), {}), ((0,), {(0,): ((0,), {})}),
+        ((2,), ((0,), (1,))), ((0,), {}), ((0,), {(0,): ((0,), {})}), Hall((2,)), [Hall((2, 3))], "dials 2",
     ]
 
 
@@ -277,6 +278,8 @@ def same(one, other):
         return len(one) == len(other) and all(same(x, y) for x, y in zip(one, other))
     if type(one) is dict:
         return same(list(one.items()), list(other.items()))
+    if type(one) is Hall:
+        return one == other and one.log() == other.log()
     return one is other if isinstance(one, MoveError) else one == other
 
 
@@ -295,9 +298,11 @@ def held_lists(value):
 
 
 def is_plain(value):
-    """Whether a value is made of numbers, bools, None, strings, lists, tuples, dicts with ascending keys, and groups."""
+    """Whether a value is made of numbers, bools, None, strings, lists, tuples, dicts with ascending keys, objects."""
     if type(value) is Group:
         return is_plain(value.table)
+    if type(value) is Hall:
+        return is_plain([value.dials, value.log()])
     if type(value) in (list, tuple):
         return all(is_plain(item) for item in value)
     if type(value) is dict:
@@ -311,6 +316,8 @@ def copied(value):
         return type(value)(copied(item) for item in value)
     if type(value) is dict:
         return {copied(key): copied(value[key]) for key in value}
+    if type(value) is Hall:
+        return value.copy()
     return value if isinstance(value, MoveError) else copy.copy(value)
 
 

@@ -43,6 +43,13 @@ INTERFACE = {
     "groups": "Group after back turns commutes group_of polygon group_from part_from mixed_part",
     "shades": "shade is_shade comes_to_nothing order_to is_order_to heavy",
     "mixings": "mixing is_mixing mixings_many moved_mixing joined_mixing group_dealing barred_row",
+    "squares": "is_square square surplus switched",
+    "cuts": "is_cut cuts surplus_total",
+    "mates": "is_parting parting are_mates mate parting_by shift_parting squares_of",
+    "hall": "Hall",
+    "onekey": "is_handing left_by often leavers handing",
+    "leaving": "leavable seating_without",
+    "texts": "hall_text read_hall",
 }
 LIBRARY = {"math"}
 
@@ -126,10 +133,12 @@ class Form(unittest.TestCase):
                     self.assertNotIn(node.arg, names, name)
 
     def test_nothing_that_the_language_leaves_out(self):
-        barred = (ast.AsyncFunctionDef, ast.Await, ast.Global, ast.GeneratorExp, ast.Div, ast.Try, ast.With,
-                  ast.Nonlocal, ast.Starred, ast.SetComp)
+        barred = (ast.AsyncFunctionDef, ast.Await, ast.Global, ast.GeneratorExp, ast.Div, ast.With, ast.Nonlocal,
+                  ast.Starred, ast.SetComp)
         for name in MODULES:
             for node in ast.walk(tree(name)):
                 self.assertNotIsInstance(node, barred, name)
                 if isinstance(node, ast.FunctionDef):
                     self.assertEqual(node.decorator_list, [])
+                if isinstance(node, ast.Try):
+                    self.assertEqual([ast.unparse(each.type) for each in node.handlers], ["MoveError"], name)

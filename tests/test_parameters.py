@@ -3,11 +3,12 @@
 import inspect
 
 from movedround import errors
-from tests import signatures, signatures_lots, signatures_walks
+from tests import signatures, signatures_halls, signatures_lots, signatures_walks
 from tests.support import Case, anything, copied, near_misses, with_tuples
 
-SPECS = signatures.SPECS + signatures_walks.SPECS + signatures_lots.SPECS
-BEYOND = signatures.BEYOND + signatures_walks.BEYOND + signatures_lots.BEYOND
+FILES = (signatures, signatures_walks, signatures_lots, signatures_halls)
+SPECS = [each for file in FILES for each in file.SPECS]
+BEYOND = [each for file in FILES for each in file.BEYOND]
 
 # Of no use for any parameter that has an error.
 NO_GOOD = [None, True, "x", {"a": 1}, (True,), [[0]], 1000000000, errors.TooMany(10)]
