@@ -4,7 +4,7 @@ from movedround.errors import BadInner, BadMixing, BadOuter, BadPart, BadRow, To
 from movedround.groups import check_group, check_member, find_mixed, has_no_order, is_line, is_member, reach
 from movedround.listing import first_dealt, list_dealt
 from movedround.shades import is_nothing_in_all
-from movedround.values import is_all_different, is_ascending, is_between, is_rising, is_tuple_of
+from movedround.values import is_all_different, is_ascending, is_between, is_tuple_of
 
 
 def list_goals(group):
@@ -69,8 +69,8 @@ def is_two_sided(group, thing):
     """Whether any value is a part of the group whose sides are the same from left and right."""
     if not isinstance(thing, tuple) or not all([is_member(group, member) for member in thing]):
         return False
-    # Its own part_from: it has 0, and whatever comes of its members.
-    if not is_rising(thing) or reach(group, thing) != thing:
+    # As its own part_from it is ascending, has 0, and has whatever comes of its members.
+    if reach(group, thing) != thing:
         return False
     return all([left_side(group, each, thing) == right_side(group, each, thing) for each in range(len(group.table))])
 
@@ -82,7 +82,7 @@ def list_side_names(group, part):
 
 def is_matched(thing, names):
     """Whether any value is a dict from all these numbers to the same ones, each once."""
-    if not isinstance(thing, dict) or len(thing) != len(names):
+    if not isinstance(thing, dict):
         return False
     items = list(thing) + list(thing.values())
     if not all([is_between(item, 0, names[-1]) for item in items]):

@@ -83,5 +83,5 @@ def all_but(dials, lot, row, move):
     if not is_place(dials, move) or move not in row:
         raise BadMove("not one of the moves of the row")
     held = hand_all(dials, lot, left_over(row, [move]))
-    person = [person for person in lot if person not in held][0]
-    return person, tuple([held.get(person) for person in lot])
+    free = [person for person in lot if person not in held]
+    return free[0], tuple([held.get(person) for person in lot])

@@ -87,6 +87,17 @@ class Shades(Case):
         for thing in (((2,), ((False,), (1,))), ((2,), ((0,), (True,))), ((2,), ((1,), (0,)))):
             self.assertIs(self.told(is_shade, group=group_of((2,)), thing=thing), False)
 
+    def test_what_keeps_sums_but_names_too_many_nothing(self):
+        for group, thing in ((group_of((4,)), ((2,), ((0,), (1,), (0,), (1,)))),
+                             (group_of((6,)), ((3,), tuple((at % 3,) for at in range(6)))),
+                             (group_of((2, 2)), ((2,), ((0,), (0,), (1,), (1,)))),
+                             (polygon(4), ((2,), ((0,),) * 4 + ((1,),) * 4))):
+            self.assertFalse(good_shade(group, thing))
+            self.assertIs(self.told(is_shade, group=group, thing=thing), False)
+        # Names that are not all places of the dials.
+        thing = ((4,), tuple((2 * at,) for at in range(2)))
+        self.assertIs(self.told(is_shade, group=group_of((2,)), thing=thing), False)
+
     def test_comes_to_nothing(self):
         for group in all_groups():
             sizes, names = shade(group)

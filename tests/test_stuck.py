@@ -8,7 +8,7 @@ from movedround import errors
 from movedround.seatings import seating
 from movedround.stuck import is_stuck, stuck
 from tests.judges import good_stuck
-from tests.support import Case, all_dials, anything, near_misses, own_places
+from tests.support import Case, all_dials, anything, near_misses, own_places, own_plus
 from tests.test_lots import WRONG_LOTS, drawn_lot, drawn_lot_row
 from tests.test_seatings import all_lots
 
@@ -20,6 +20,19 @@ LOT6, ROW6 = ((0,), (2,), (4,), (5,)), ((0,), (0,), (4,), (4,))
 def backwards(tree):
     person, branches = tree
     return person, {move: backwards(branches[move]) for move in reversed(list(branches))}
+
+
+def loose_tree(sizes, left, ends, persons):
+    """A tree for these persons, one after another, whoever they are."""
+    person, *others = persons
+    goals = {move: own_plus(sizes, person, move) for move in left}
+    branches = {}
+    for move, goal in goals.items():
+        if goal not in ends:
+            rest = list(left)
+            rest.remove(move)
+            branches[move] = loose_tree(sizes, rest, ends + (goal,), others)
+    return person, branches
 
 
 class Stuck(Case):
@@ -92,6 +105,19 @@ class Stuck(Case):
                       ((0,), {(0,): ((1,), {}), (True,): ((1,), {})}), ((0,), {(0,): ((True,), {}), (1,): ((1,), {})}),
                       ((0,), {0: ((1,), {}), 1: ((1,), {})}), ((0,), {(0,): ((1,), {}), (1,): ((1,), [])})):
             self.assertIs(self.told(is_stuck, dials=(2,), lot=lot, row=row, thing=thing), False)
+
+    def test_persons_who_have_a_move_or_are_not_of_the_lot(self):
+        """Trees that would do, but for a person who is not waiting: also where there is a seating."""
+        for sizes, lot, row in (((4,), LOT4, ROW4), ((6,), LOT6, ROW6), ((3,), ((1,),), ((2,),)), ((2,), ((0,),), ((1,),)),
+                                ((4,), ((0,), (2,)), ((0,), (1,))), ((2, 2), ((0, 0), (1, 1)), ((0, 0), (1, 1)))):
+            for first in own_places(sizes):
+                for then in own_places(sizes):
+                    for last in own_places(sizes):
+                        thing = loose_tree(sizes, list(row), (), (first, then, last) + (then,) * len(row))
+                        judged = self.told(is_stuck, dials=sizes, lot=lot, row=row, thing=thing)
+                        self.assertIs(judged, good_stuck(sizes, lot, row, thing), thing)
+        self.assertIs(is_stuck((2,), ((0,),), ((1,),), ((0,), {(1,): ((0,), {})})), False)
+        self.assertIs(is_stuck((2,), ((0,),), ((1,),), ((0,), {(1,): ((1,), {})})), False)
 
     def test_too_many(self):
         draw = random.Random(621)

@@ -3,6 +3,7 @@
 import math
 import random
 
+from movedround import errors
 from movedround.bymoves import is_trip
 from movedround.cuts import cuts, is_cut
 from movedround.dealings import dealing, is_dealing, row_of
@@ -54,6 +55,8 @@ class OneHalf(Case):
                 self.assertIs(is_near(sizes, move, near(sizes, move)), True)
         else:
             self.assertIs(is_unlike(sizes, unlike(sizes)), True)
+            for move in places(sizes):
+                self.refused(errors.NotOneHalf, near, dials=sizes, move=move)
 
 
 class Routes(Case):
